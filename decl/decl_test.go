@@ -246,14 +246,74 @@ func TestP11_1_FindAutomaton(t *testing.T) {
 	}
 }
 
-// TestP11_1_FindPredefined has the automata of layer 10 in each book, whatever the tree declares.
+// TestP11_1_FindPredefined has the protocols of layer 10 in each book, whatever the tree declares.
 func TestP11_1_FindPredefined(t *testing.T) {
 	for _, text := range []string{"", "proto P { final Z; }", "proto File { final Z; } proto Iter { }", "proto Socket { state A; final Z; op end A -> ok Z; } proto Socket { final Z; }"} {
 		b, _ := made(t, parsed(t, text))
 		for _, p := range std.All() {
+			if got := found(t, b, p.Name); !same(got, p) {
+				t.Errorf("%s: Find(%s) has the protocol %v; want %v", text, p.Name, got, p)
+			}
+			a, _ := b.Find(p.Name)
 			want, _ := std.Auto(p.Name)
-			if a, ok := b.Find(p.Name); a != want || !ok {
-				t.Errorf("%s: Find(%s) is not the automaton of layer 10: %v", text, p.Name, ok)
+			alike(t, text+": "+p.Name, a, want)
+		}
+	}
+}
+
+// alike tells whether an automaton answers as another one does, for each state, operation, outcome and set.
+func alike(t *testing.T, of string, a, want *auto.Auto) {
+	t.Helper()
+	p := want.Proto()
+	for _, s := range append(p.States, api.State{Name: "Missing"}) {
+		at, ok := a.State(s.Name)
+		if wantAt, wantOk := want.State(s.Name); at != wantAt || ok != wantOk {
+			t.Errorf("%s: State(%s) = %d, %v; want %d, %v", of, s.Name, at, ok, wantAt, wantOk)
+		}
+	}
+	if !slices.Equal(a.Ops(), want.Ops()) || a.Finals() != want.Finals() {
+		t.Errorf("%s: the operations are %q, the final states %b; want %q, %b", of, a.Ops(), a.Finals(), want.Ops(), want.Finals())
+	}
+	for _, op := range append(want.Ops(), "missing") {
+		outcomes := want.Outcomes(op)
+		if !slices.Equal(a.Outcomes(op), outcomes) || a.Enabled(op) != want.Enabled(op) || a.Keeps(op) != want.Keeps(op) {
+			t.Errorf("%s: %s has the outcomes %q, is enabled in %b and keeps %b", of, op, a.Outcomes(op), a.Enabled(op), a.Keeps(op))
+		}
+		for state := range len(p.States) + 1 {
+			if got, outs := a.Outs(state, op), want.Outs(state, op); !slices.Equal(got, outs) {
+				t.Errorf("%s: Outs(%d, %s) = %v; want %v", of, state, op, got, outs)
+			}
+		}
+		for _, outcome := range append(outcomes, "missing") {
+			for set := range uint32(2) << len(p.States) {
+				if got, step := a.Step(set, op, outcome), want.Step(set, op, outcome); got != step {
+					t.Errorf("%s: Step(%b, %s, %s) = %b; want %b", of, set, op, outcome, got, step)
+				}
+			}
+		}
+	}
+}
+
+// TestP11_1_PredefinedSteps steps through the predefined protocols as the document lists them.
+func TestP11_1_PredefinedSteps(t *testing.T) {
+	for _, text := range []string{"", "fn main() { }", "proto File { } proto Socket { final Z; } proto P { state A; final Z; op read A -> some Z; }"} {
+		b, _ := made(t, parsed(t, text))
+		for _, c := range []struct {
+			name, op, outcome string
+			set, want         uint32
+		}{
+			{"File", "read", "some", 0b111, 0b001}, {"File", "read", "none", 0b001, 0b010}, {"File", "read", "none", 0b110, 0}, {"File", "write", "over", 0b011, 0b010},
+			{"File", "size", "ok", 0b111, 0b011}, {"File", "close", "ok", 0b011, 0b100}, {"File", "next", "item", 0b111, 0}, {"File", "read", "ok", 0b111, 0},
+			{"Socket", "connect", "ok", 0b0001, 0b0010}, {"Socket", "connect", "fail", 0b1111, 0b0100}, {"Socket", "send", "lost", 0b0010, 0b0100}, {"Socket", "peek", "none", 0b1111, 0b0010},
+			{"Socket", "recv", "lost", 0b0111, 0b0100}, {"Socket", "close", "ok", 0b0100, 0b1000}, {"Socket", "close", "ok", 0b1000, 0},
+			{"Iter", "next", "item", 0b11, 0b01}, {"Iter", "next", "done", 0b01, 0b10}, {"Iter", "stop", "ok", 0b01, 0b10}, {"Iter", "left", "ok", 0b11, 0b01}, {"Iter", "left", "ok", 0b10, 0},
+		} {
+			a, ok := b.Find(c.name)
+			if !ok {
+				t.Fatalf("%s: Find(%s) = false", text, c.name)
+			}
+			if got := a.Step(c.set, c.op, c.outcome); got != c.want {
+				t.Errorf("%s: %s: Step(%b, %s, %s) = %b; want %b", text, c.name, c.set, c.op, c.outcome, got, c.want)
 			}
 		}
 	}

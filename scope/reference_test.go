@@ -93,9 +93,9 @@ func reference(l []api.Node) []api.Diag {
 		d     api.Diag
 	}
 	var all []placed
-	order := tree.Walk(l)
-	for place, at := range order {
-		for _, d := range faults(l, at) {
+	book, _ := decl.New(l)
+	for place, at := range tree.Walk(l) {
+		for _, d := range faults(l, at, book.Names()) {
 			all = append(all, placed{place, d})
 		}
 		if n := l[at]; slices.Contains([]int{api.NodeParam, api.NodeLet, api.NodeOpen, api.NodeSplit}, n.Kind) && declarerOf(l, at, n.Words[0]) >= 0 {
@@ -126,7 +126,7 @@ func isLetTwice(l []api.Node, d api.Diag) int {
 }
 
 // faults are the diagnostics of a node, without that of the variable that it declares.
-func faults(l []api.Node, at int) []api.Diag {
+func faults(l []api.Node, at int, protocols []string) []api.Diag {
 	var diags []api.Diag
 	n := l[at]
 	tell := func(wrong bool, code int, name string) {
@@ -142,13 +142,12 @@ func faults(l []api.Node, at int) []api.Diag {
 	fn := func(name string) int {
 		return slices.IndexFunc(l[0].Kids, func(kid int) bool { return l[kid].Kind == api.NodeFn && l[kid].Words[0] == name })
 	}
-	book, _ := decl.New(l)
 	switch n.Kind {
 	case api.NodeFn:
 		tell(l[0].Kids[fn(n.Words[0])] != at, 2, n.Words[0])
 	case api.NodeParam, api.NodeOpen:
 		if len(n.Words) == 2 {
-			tell(!slices.Contains(book.Names(), n.Words[1]), 3, n.Words[1])
+			tell(!slices.Contains(protocols, n.Words[1]), 3, n.Words[1])
 		}
 	case api.NodeSet, api.NodeVar:
 		use(n.Words[0], false)
